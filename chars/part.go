@@ -68,3 +68,8 @@ func places(s string, old string) int {
 	}
 	return strings.Count(s, old)
 }
+
+// tooLong: whether so many bytes and count times each more are above MaxText. It divides, since the product of two lengths may be too great for an int.
+func tooLong(kept int, count int, each int) bool {
+	return kept > api.MaxText || count > 0 && each > (api.MaxText-kept)/count
+}

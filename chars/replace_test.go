@@ -1,7 +1,9 @@
 package chars_test
 
 import (
+	"syscall"
 	"testing"
+	"unsafe"
 
 	"abacus/api"
 )
@@ -89,4 +91,29 @@ func TestReplaceInALongText(t *testing.T) {
 	holdReplace(t, "abc", most+most, "x", -1, "abc", 0, api.OK)
 	holdReplace(t, row(1<<24), "x", row(1<<24), -1, "", 0, api.ErrLong)
 	holdReplace(t, row(1<<24), "", row(1<<24), -1, "", 0, api.ErrLong)
+}
+
+// zeros: a text of so many bytes 00, in pages of the system's that are never written to and so take no memory.
+func zeros(t *testing.T, count int) string {
+	memory, err := syscall.Mmap(-1, 0, count, syscall.PROT_READ, syscall.MAP_ANON|syscall.MAP_PRIVATE)
+	if err != nil {
+		t.Fatal(err)
+	}
+	t.Cleanup(func() { syscall.Munmap(memory) })
+	return unsafe.String(&memory[0], count)
+}
+
+// P20.4, P1: texts so long that the length of the answer goes round in an int, to below 0 or to a small number (65535).
+func TestReplaceBeyondAnInt(t *testing.T) {
+	all := zeros(t, 1<<32+65535)
+	s := all[:3037000500]
+	holdReplace(t, s, "", s, -1, "", 0, api.ErrLong)
+	holdReplace(t, s, "\x00", s, -1, "", 0, api.ErrLong)
+	holdReplace(t, all, "", all[:1<<32-65536], -1, "", 0, api.ErrLong)
+	holdReplace(t, all, "", all[:1<<32-65536], maxInt, "", 0, api.ErrLong)
+	holdReplace(t, all, all, all, -1, "", 0, api.ErrLong)
+	holdReplace(t, all, all, "y", -1, "y", 1, api.OK)
+	holdReplace(t, "abc", "b", all, 1, "", 0, api.ErrLong)
+	holdReplace(t, "abc", "b", all, 0, "abc", 0, api.OK)
+	holdReplace(t, "abc", all, all, -1, "abc", 0, api.OK)
 }
