@@ -3,6 +3,7 @@ package machine
 import (
 	"abacus/api"
 	"abacus/meaning"
+	"abacus/reckon"
 	"abacus/value"
 )
 
@@ -34,10 +35,10 @@ func operations() table {
 		api.InStepElem:  stepped(element),
 		api.InSubElem:   replaced(element),
 		api.InIn:        has,
-		api.InNeg:       turned(meaning.Neg),
-		api.InPos:       turned(meaning.Pos),
-		api.InNot:       turned(meaning.Not),
-		api.InTruth:     turned(truth),
+		api.InNeg:       turned(reckon.Neg),
+		api.InPos:       turned(reckon.Pos),
+		api.InNot:       turned(reckon.Not),
+		api.InTruth:     turned(reckon.Truth),
 		api.InBin:       bin,
 		api.InCat:       cat,
 		api.InRel:       rel,
@@ -79,10 +80,8 @@ func turned(turn func(v api.Value) api.Value) operation {
 	}
 }
 
-func truth(v api.Value) api.Value { return meaning.Bool(value.Truth(v)) }
-
 func bin(_ *run, in api.Instr, vals []api.Value) (api.Value, api.Errno) {
-	return meaning.Bin(in.A, vals[0], vals[1])
+	return reckon.Bin(in.A, vals[0], vals[1])
 }
 
 func cat(r *run, _ api.Instr, vals []api.Value) (api.Value, api.Errno) {

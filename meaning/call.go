@@ -6,10 +6,9 @@ import (
 	"abacus/api"
 	"abacus/chars"
 	"abacus/gather"
+	"abacus/reckon"
 	"abacus/record"
 	"abacus/relate"
-	"abacus/remain"
-	"abacus/soft"
 	"abacus/spell"
 	"abacus/store"
 	"abacus/value"
@@ -19,9 +18,9 @@ import (
 func Call(s *store.Store, function int, args []api.Value) (api.Value, api.Errno) {
 	switch function {
 	case api.FnInt:
-		return value.Num(remain.Trunc(value.ToNum(args[0]))), api.OK
+		return reckon.Int(args[0]), api.OK
 	case api.FnSqrt:
-		return value.Num(soft.Sqrt(value.ToNum(args[0]))), api.OK
+		return reckon.Sqrt(args[0]), api.OK
 	case api.FnSum:
 		return value.Num(gather.Sum(numbers(args))), api.OK
 	case api.FnIndex:

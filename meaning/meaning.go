@@ -1,4 +1,4 @@
-// Package meaning is what the operations of expressions do, over values and a store. The document says it once (shared/doc/25-walk.md) for all layers that carry expressions out, and so it stands here once.
+// Package meaning is what the operations of expressions do, over values and a store; those that need no store stand in package reckon. The document says it once (shared/doc/25-walk.md) for all layers that carry expressions out, and so it stands here once.
 //
 // Operators, steps and functions are those of a tree or a code that has been checked.
 package meaning
@@ -7,20 +7,11 @@ import (
 	"abacus/api"
 	"abacus/chars"
 	"abacus/ieee"
+	"abacus/reckon"
 	"abacus/relate"
-	"abacus/remain"
-	"abacus/soft"
 	"abacus/store"
 	"abacus/value"
 )
-
-// Bool is 1 or 0.
-func Bool(holds bool) api.Value {
-	if holds {
-		return value.Num(api.One)
-	}
-	return value.Num(0)
-}
 
 // Count is a count as a number.
 func Count(n int) api.Value { return value.Num(ieee.FromInt(int64(n))) }
@@ -75,46 +66,7 @@ func In(s *store.Store, array int, subscripts []api.Value) (api.Value, api.Errno
 	if e != api.OK {
 		return api.Value{}, e
 	}
-	return Bool(has), api.OK
-}
-
-// Neg is the number of v with its sign turned.
-func Neg(v api.Value) api.Value { return value.Num(ieee.Neg(value.ToNum(v))) }
-
-// Pos is the number of v.
-func Pos(v api.Value) api.Value { return value.Num(value.ToNum(v)) }
-
-// Not is 1 if v counts as false, else 0.
-func Not(v api.Value) api.Value { return Bool(!value.Truth(v)) }
-
-// Bin is the number that an operator makes of the numbers of v and w; ErrDivide, ErrPower.
-func Bin(op int, v api.Value, w api.Value) (api.Value, api.Errno) {
-	d, e := worked(op, value.ToNum(v), value.ToNum(w))
-	if e != api.OK {
-		return api.Value{}, e
-	}
-	return value.Num(d), api.OK
-}
-
-// worked is x op y.
-func worked(op int, x uint64, y uint64) (uint64, api.Errno) {
-	switch op {
-	case api.OpAdd:
-		return soft.Add(x, y), api.OK
-	case api.OpSub:
-		return soft.Sub(x, y), api.OK
-	case api.OpMul:
-		return soft.Mul(x, y), api.OK
-	case api.OpPow:
-		return remain.Pow(x, y)
-	}
-	if ieee.Abs(y) == 0 {
-		return 0, api.ErrDivide
-	}
-	if op == api.OpDiv {
-		return soft.Div(x, y), api.OK
-	}
-	return remain.Fmod(x, y), api.OK
+	return reckon.Bool(has), api.OK
 }
 
 // Cat is the texts of v and w, one behind the other; their errors, ErrLong.
@@ -140,5 +92,5 @@ func Rel(s *store.Store, op int, v api.Value, w api.Value) (api.Value, api.Errno
 	if e != api.OK {
 		return api.Value{}, e
 	}
-	return Bool(holds), api.OK
+	return reckon.Bool(holds), api.OK
 }

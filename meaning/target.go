@@ -4,6 +4,7 @@ import (
 	"abacus/api"
 	"abacus/chars"
 	"abacus/ieee"
+	"abacus/reckon"
 	"abacus/soft"
 	"abacus/store"
 	"abacus/value"
@@ -93,7 +94,7 @@ func Update(s *store.Store, t Target, op int, v api.Value) (api.Value, api.Errno
 	if e != api.OK {
 		return api.Value{}, e
 	}
-	made, e := Bin(op, old, v)
+	made, e := reckon.Bin(op, old, v)
 	if e != api.OK {
 		return api.Value{}, e
 	}

@@ -5,6 +5,7 @@ import (
 
 	"abacus/api"
 	"abacus/meaning"
+	"abacus/reckon"
 	"abacus/store"
 	"abacus/value"
 )
@@ -71,7 +72,7 @@ func (b *branch) either(s *store.Store) (api.Value, api.Errno) {
 	if e != api.OK {
 		return api.Value{}, e
 	}
-	return meaning.Bool(value.Truth(v)), api.OK
+	return reckon.Truth(v), api.OK
 }
 
 // chosen is ?: over its kids.
@@ -96,13 +97,13 @@ func (b *branch) worked(s *store.Store) (api.Value, api.Errno) {
 	case api.NodeIn:
 		return meaning.In(s, b.Ref, vals)
 	case api.NodeNeg:
-		return meaning.Neg(vals[0]), api.OK
+		return reckon.Neg(vals[0]), api.OK
 	case api.NodePos:
-		return meaning.Pos(vals[0]), api.OK
+		return reckon.Pos(vals[0]), api.OK
 	case api.NodeNot:
-		return meaning.Not(vals[0]), api.OK
+		return reckon.Not(vals[0]), api.OK
 	case api.NodeBin:
-		return meaning.Bin(b.Op, vals[0], vals[1])
+		return reckon.Bin(b.Op, vals[0], vals[1])
 	case api.NodeCat:
 		return meaning.Cat(s, vals[0], vals[1])
 	}
